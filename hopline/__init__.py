@@ -1,0 +1,1 @@
+"""Hopline: beads that hop along a row, met by weights."""

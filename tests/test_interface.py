@@ -1,0 +1,63 @@
+"""The interface: each name and argument that has landed exists as the document lists it."""
+
+import importlib
+import inspect
+import unittest
+
+NO_DEFAULT = inspect.Parameter.empty
+
+FUNCTIONS = [
+    ("hopline.parts", "is_whole", [("thing", NO_DEFAULT)]),
+    ("hopline.parts", "read_part", [("text", NO_DEFAULT)]),
+    ("hopline.rows", "is_row", [("thing", NO_DEFAULT)]),
+    ("hopline.rows", "row_number", [("row", NO_DEFAULT)]),
+    ("hopline.rows", "row_at", [("many", NO_DEFAULT), ("number", NO_DEFAULT)]),
+    ("hopline.rows", "mirrored", [("row", NO_DEFAULT)]),
+    ("hopline.rows", "walls_of", [("row", NO_DEFAULT)]),
+    ("hopline.rows", "changed", [("row", NO_DEFAULT), ("wall", NO_DEFAULT)]),
+    ("hopline.paces", "pace_of", [("row", NO_DEFAULT), ("wall", NO_DEFAULT), ("inn", None), ("out", None)]),
+    ("hopline.paces", "changes", [("row", NO_DEFAULT), ("inn", None), ("out", None)]),
+]
+
+METHODS = [
+    ("hopline.parts", "Part", "__init__", [("top", NO_DEFAULT), ("bottom", 1)]),
+    ("hopline.parts", "Part", "plus", [("other", NO_DEFAULT)]),
+    ("hopline.parts", "Part", "less", [("other", NO_DEFAULT)]),
+    ("hopline.parts", "Part", "times", [("other", NO_DEFAULT)]),
+    ("hopline.parts", "Part", "over", [("other", NO_DEFAULT)]),
+    ("hopline.parts", "Part", "raised", [("many", NO_DEFAULT)]),
+    ("hopline.parts", "Part", "is_below", [("other", NO_DEFAULT)]),
+    ("hopline.parts", "Part", "__eq__", [("other", NO_DEFAULT)]),
+    ("hopline.parts", "Part", "__str__", []),
+    ("hopline.parts", "Part", "__repr__", []),
+    ("hopline.errors", "NoWall", "__init__", [("wall", NO_DEFAULT)]),
+    ("hopline.errors", "NoName", "__init__", [("name", NO_DEFAULT)]),
+]
+
+
+def arguments(function):
+    found = list(inspect.signature(function).parameters.values())
+    return [(argument.name, argument.default) for argument in found], {argument.kind for argument in found}
+
+
+class TestInterface(unittest.TestCase):
+
+    def test_functions(self):
+        for module, name, wanted in FUNCTIONS:
+            with self.subTest(module=module, name=name):
+                found, kinds = arguments(getattr(importlib.import_module(module), name))
+                self.assertEqual(found, wanted)
+                self.assertLessEqual(kinds, {inspect.Parameter.POSITIONAL_OR_KEYWORD})
+
+    def test_methods_stand_in_the_class_itself(self):
+        for module, owner, name, wanted in METHODS:
+            with self.subTest(module=module, owner=owner, name=name):
+                body = vars(getattr(importlib.import_module(module), owner))
+                self.assertIn(name, body)
+                found, kinds = arguments(body[name])
+                self.assertEqual(found[1:], wanted)
+                self.assertLessEqual(kinds, {inspect.Parameter.POSITIONAL_OR_KEYWORD})
+
+
+if __name__ == "__main__":
+    unittest.main()
