@@ -35,3 +35,14 @@ def changes(row, inn=None, out=None):
     """Tell the changes of a row: tuples (wall, pace, row behind it), by rising walls."""
     walls = walls_of(row)
     return [(wall, pace_of(row, wall, inn, out), changed(row, wall)) for wall in walls]
+
+
+def pace_of_all(row, inn, out):
+    """Tell the sum of the paces of all open walls."""
+    walls = walls_of(row)
+    outer = [pace_of(row, wall, inn, out) for wall in (0, len(row)) if wall in walls]
+    # Each open wall between two places has the Part of 1.
+    result = Part(len(walls) - len(outer))
+    for pace in outer:
+        result = result.plus(pace)
+    return result

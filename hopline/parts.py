@@ -84,22 +84,22 @@ class Part:
 
     def times(self, other):
         """Tell the product with another Part."""
-        return Part(self.top * other.top, self.bottom * other.bottom)
+        # Divided out crosswise first, for in the long numbers of a long product it would take long.
+        first = common_divisor(self.top, other.bottom)
+        second = common_divisor(other.top, self.bottom)
+        return lowest((self.top // first) * (other.top // second), (self.bottom // second) * (other.bottom // first))
 
     def over(self, other):
         """Tell the quotient by another Part."""
-        # By the Part of 0 the bottom comes to 0, which the new Part itself refuses.
-        return Part(self.top * other.bottom, self.bottom * other.top)
+        # Of the Part of 0 the bottom comes to 0, which the new Part itself refuses.
+        return self.times(Part(other.bottom, other.top))
 
     def raised(self, many):
         """Tell the product of so many like this one, from 0 to 100."""
         if not is_whole(many) or many < 0 or many > MOST_RAISED:
             raise NoNumber("a Part is raised 0 to 100 times")
-        result = Part(1)
-        # Powers of numbers without a common divisor have none either; to look for one would take long.
-        result.top = power(self.top, many)
-        result.bottom = power(self.bottom, many)
-        return result
+        # Powers of numbers without a common divisor have none either.
+        return lowest(power(self.top, many), power(self.bottom, many))
 
     def is_below(self, other):
         """Tell whether it is below another Part."""
@@ -115,6 +115,14 @@ class Part:
         if self.bottom == 1:
             return f"{figures_of(self.top)}"
         return f"{figures_of(self.top)}/{figures_of(self.bottom)}"
+
+
+def lowest(top, bottom):
+    """Tell the Part of numbers that are known to be in lowest terms; to look for a divisor would take long."""
+    result = Part(1)
+    result.top = top
+    result.bottom = bottom
+    return result
 
 
 def read_part(text):

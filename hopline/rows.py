@@ -41,10 +41,15 @@ def row_at(many, number):
     return "".join([BEAD if (number >> (many - 1 - place)) & 1 else FREE for place in range(many)])
 
 
+def exchanged(row):
+    """Tell the row with beads and free places exchanged, each at its place."""
+    return "".join([OTHER_SIGN[sign] for sign in row])
+
+
 def mirrored(row):
     """Tell the row turned about, beads and free places exchanged."""
     need_row(row)
-    return "".join([OTHER_SIGN[sign] for sign in reversed(row)])
+    return exchanged(row[::-1])
 
 
 def with_ends(row):

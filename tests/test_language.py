@@ -25,6 +25,12 @@ BARRED_NODES = (ast.Global, ast.AsyncFunctionDef, ast.AsyncFor, ast.AsyncWith, a
 
 TAKES_LISTS = ["any", "all", "min", "max", "sum", "sorted"]
 
+# What methods of builtin values may be called; those of the package stand beside them.
+BUILTIN_METHODS = """append clear copy count endswith extend find get index insert isalnum isalpha isdigit islower
+isspace isupper items join keys ljust lower lstrip partition pop remove replace reverse rfind rjust rpartition rsplit rstrip
+setdefault split splitlines startswith strip update upper values zfill bit_length isascii removeprefix removesuffix
+__init__""".split()
+
 
 def files():
     return sorted(PACKAGE.rglob("*.py"))
@@ -36,6 +42,14 @@ def trees():
 
 def nodes(kind):
     return [(name, node) for name, tree in trees() for node in ast.walk(tree) if isinstance(node, kind)]
+
+
+def is_text(node):
+    """Whether it is a text as it may be told by str and repr: a literal, an f-string, or the join of a literal."""
+    if isinstance(node, ast.Call):
+        return (isinstance(node.func, ast.Attribute) and node.func.attr == "join"
+                and isinstance(node.func.value, ast.Constant))
+    return isinstance(node, (ast.Constant, ast.JoinedStr))
 
 
 class TestLanguage(unittest.TestCase):
@@ -89,8 +103,21 @@ class TestLanguage(unittest.TestCase):
         for name, node in nodes(ast.FunctionDef):
             if node.name in ("__repr__", "__str__"):
                 for told in [part for part in ast.walk(node) if isinstance(part, ast.Return)]:
-                    self.assertIsInstance(told.value, (ast.Constant, ast.JoinedStr), f"{name}:{told.lineno}")
+                    self.assertTrue(is_text(told.value), f"{name}:{told.lineno}")
+            if node.name == "__len__":
+                for told in [part for part in ast.walk(node) if isinstance(part, ast.Return)]:
+                    self.assertRegex(ast.unparse(told.value), r"^(len\(.*\)|\d+)$", f"{name}:{told.lineno}")
+            if node.name in ("__repr__", "__str__", "__len__"):
                 self.assertIsInstance(node.body[-1], ast.Return, f"{name}:{node.lineno}")
+            if node.name in ("__eq__", "__repr__", "__str__", "__len__"):
+                stored = [part for part in ast.walk(node) if isinstance(part, (ast.Assign, ast.AugAssign, ast.Delete))]
+                self.assertEqual(stored, [], f"{name}:{node.lineno}")
+
+    def test_methods_that_are_called(self):
+        own = {node.name for name, node in nodes(ast.FunctionDef)}
+        for name, node in nodes(ast.Call):
+            if isinstance(node.func, ast.Attribute):
+                self.assertIn(node.func.attr, own | set(BUILTIN_METHODS), f"{name}:{node.lineno}")
 
     def test_constants(self):
         for name, node in nodes(ast.Constant):

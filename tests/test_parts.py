@@ -8,7 +8,7 @@ from math import gcd
 from hopline.errors import ByNought, HopError, NoNumber
 from hopline.parts import Part, is_whole, read_part
 
-from tests.things import no_texts, no_whole_numbers
+from tests.things import check_unlike, no_texts, no_whole_numbers
 
 LONG = 123456789012345678901234567890
 LONGER = 987654321098765432109876543210
@@ -145,12 +145,7 @@ class TestEqualParts(unittest.TestCase):
             others = [1, 0, -3, True, False, None, 0.5, 1.0, "1", "1/2", "Part(1, 1)", (1, 1), (1, 2), [1, 1],
                       {"top": 1, "bottom": 1}, Fraction(1), Fraction(1, 2), Fraction(part.top, part.bottom),
                       Part, object()]
-            for other in others:
-                with self.subTest(part=repr(part), other=repr(other)):
-                    self.assertIs(part == other, False)
-                    self.assertIs(other == part, False)
-                    self.assertIs(part != other, True)
-                    self.assertIs(other != part, True)
+            check_unlike(self, part, others)
 
     def test_not_equal_to_what_only_looks_alike(self):
         class Alike:
