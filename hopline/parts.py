@@ -14,6 +14,12 @@ def is_whole(thing):
     return isinstance(thing, int) and not isinstance(thing, bool)
 
 
+def need_number(thing, least, most):
+    """Refuse what is no whole number from the least to the most."""
+    if not is_whole(thing) or thing < least or thing > most:
+        raise NoNumber("no whole number, or none that is allowed there")
+
+
 def common_divisor(one, other):
     """Tell the greatest common divisor of two whole numbers that are not both 0."""
     while other != 0:
@@ -96,8 +102,7 @@ class Part:
 
     def raised(self, many):
         """Tell the product of so many like this one, from 0 to 100."""
-        if not is_whole(many) or many < 0 or many > MOST_RAISED:
-            raise NoNumber("a Part is raised 0 to 100 times")
+        need_number(many, 0, MOST_RAISED)
         # Powers of numbers without a common divisor have none either.
         return lowest(power(self.top, many), power(self.bottom, many))
 

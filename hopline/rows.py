@@ -68,11 +68,16 @@ def walls_of(row):
     return [wall for wall in range(len(row) + 1) if signs[wall:wall + 2] == BEAD + FREE]
 
 
-def changed(row, wall):
-    """Tell the row behind a change at an open wall."""
+def need_open(row, wall):
+    """Refuse what is no open wall of the row."""
     walls = walls_of(row)
     if not is_whole(wall) or wall not in walls:
         raise NoWall(wall)
+
+
+def changed(row, wall):
+    """Tell the row behind a change at an open wall."""
+    need_open(row, wall)
     signs = with_ends(row)
     behind = signs[:wall] + FREE + BEAD + signs[wall + 2:]
     return behind[1:-1]

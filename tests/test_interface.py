@@ -25,6 +25,16 @@ FUNCTIONS = [
     ("hopline.weights", "ahead_of", [("row", NO_DEFAULT)]),
     ("hopline.weights", "comes", [("row", NO_DEFAULT), ("inn", None), ("out", None)]),
     ("hopline.weights", "goes", [("row", NO_DEFAULT), ("inn", None), ("out", None)]),
+    ("hopline.heaps", "cells_of", [("row", NO_DEFAULT)]),
+    ("hopline.heaps", "is_heap", [("row", NO_DEFAULT), ("thing", NO_DEFAULT)]),
+    ("hopline.heaps", "left_in", [("row", NO_DEFAULT), ("heap", NO_DEFAULT)]),
+    ("hopline.heaps", "heap_weight", [("row", NO_DEFAULT), ("heap", NO_DEFAULT), ("inn", None), ("out", None)]),
+    ("hopline.courses", "heaps_many", [("row", NO_DEFAULT)]),
+    ("hopline.courses", "heap_at", [("row", NO_DEFAULT), ("number", NO_DEFAULT)]),
+    ("hopline.courses", "heap_number", [("row", NO_DEFAULT), ("heap", NO_DEFAULT)]),
+    ("hopline.courses", "heaps_of", [("row", NO_DEFAULT)]),
+    ("hopline.greater", "heap_changed", [("row", NO_DEFAULT), ("heap", NO_DEFAULT), ("wall", NO_DEFAULT)]),
+    ("hopline.greater", "heap_back", [("row", NO_DEFAULT), ("heap", NO_DEFAULT), ("wall", NO_DEFAULT)]),
 ]
 
 METHODS = [
@@ -60,6 +70,15 @@ METHODS = [
     ("hopline.sums", "Sum", "__eq__", [("other", NO_DEFAULT)]),
     ("hopline.sums", "Sum", "__len__", []),
     ("hopline.sums", "Sum", "__str__", []),
+    ("hopline.heapwalks", "HeapWalk", "__init__", [("row", NO_DEFAULT), ("heap", None)]),
+    ("hopline.heapwalks", "HeapWalk", "step", [("wall", NO_DEFAULT)]),
+    ("hopline.heapwalks", "HeapWalk", "step_back", [("wall", NO_DEFAULT)]),
+    ("hopline.heapwalks", "HeapWalk", "row", []),
+    ("hopline.heapwalks", "HeapWalk", "heap", []),
+    ("hopline.heapwalks", "HeapWalk", "done", []),
+    ("hopline.heapwalks", "HeapWalk", "__eq__", [("other", NO_DEFAULT)]),
+    ("hopline.heapwalks", "HeapWalk", "__len__", []),
+    ("hopline.heapwalks", "HeapWalk", "__str__", []),
     ("hopline.errors", "NoWall", "__init__", [("wall", NO_DEFAULT)]),
     ("hopline.errors", "NoName", "__init__", [("name", NO_DEFAULT)]),
 ]

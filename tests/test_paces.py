@@ -8,34 +8,11 @@ from hopline.parts import Part
 from hopline.rows import changed, walls_of
 
 from tests.test_rows import rows_to_try
-from tests.things import no_paces, no_rows
+from tests.things import looked_at, no_paces, no_rows
 
 INN = Part(2, 3)
 OUT = Part(5, 7)
 ONE = Part(1)
-
-
-def looked_at(act):
-    """The names of the paces that act looks at, where both are refused."""
-    seen = []
-
-    class Watched(Part):
-        def __init__(self, name):
-            Part.__init__(self, -1)
-            self.name = name
-
-        def __getattribute__(self, field):
-            if field in ("top", "bottom"):
-                seen.append(object.__getattribute__(self, "name"))
-            return object.__getattribute__(self, field)
-
-    inn, out = Watched("inn"), Watched("out")
-    del seen[:]
-    try:
-        act(inn, out)
-    except NoPace:
-        return set(seen)
-    return None
 
 
 class TestPaceOf(unittest.TestCase):

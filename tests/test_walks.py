@@ -9,10 +9,9 @@ from hopline.parts import Part
 from hopline.sums import Sum
 from hopline.walks import Walk
 
-from tests.test_paces import looked_at
 from tests.test_rows import LONG_ROWS, changed_by_words, open_by_words, rows_of
-from tests.things import (Alike, Odd, check_alike, check_unlike, fraction_of, no_paces, no_rows, no_whole_numbers,
-                          part_of)
+from tests.things import (Alike, Odd, check_alike, check_unlike, fraction_of, looked_at, no_paces, no_rows,
+                          no_whole_numbers, part_of)
 
 INN = Part(2, 3)
 OUT = Part(5, 7)

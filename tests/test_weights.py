@@ -9,10 +9,9 @@ from hopline.parts import Part
 from hopline.rows import changed, mirrored, walls_of
 from hopline.weights import ahead_of, comes, goes, weight
 
-from tests.test_paces import looked_at
 from tests.test_rows import LONG_ROWS, changed_by_words, open_by_words, rows_of, rows_to_try
 from tests.test_words import chance_words, ends_by_words, ends_from_the_right, last
-from tests.things import fraction_of, no_paces, no_rows, part_of
+from tests.things import fraction_of, looked_at, no_paces, no_rows, part_of
 
 INN = Part(2, 3)
 OUT = Part(5, 7)

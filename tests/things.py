@@ -2,6 +2,7 @@
 
 from fractions import Fraction
 
+from hopline.errors import NoPace
 from hopline.parts import Part
 
 
@@ -79,3 +80,65 @@ def check_alike(test, one, other):
     test.assertEqual([0, one], [0, other])
     test.assertIn(one, [None, other])
     test.assertEqual(["x", other].index(one), 1)
+
+
+def no_heaps():
+    """Things that are no heap of any row."""
+    return [thing for thing in no_whole_numbers() + no_texts() if not (isinstance(thing, list) and not thing)
+            and thing is not None] + [
+        0, 7, "o.", ((0, 1, "o"),), {(0, 1): "o"}, {(0, 1, "o")}, [None], [True], [[]], [()], [(0,)], [(0, 1)], ["0 1 o"],
+        [(0, 1, "o", "o")], [(0, 1, "x")], [(0, 1, "O")], [(0, 1, "")], [(0, 1, "oo")], [(0, 1, "o.")], [(0, 1, None)],
+        [(0, 1, 0)], [(0, 1, b"o")], [(0, 1, ["o"])], [(0, 1, EqualToAll())], [(EqualToAll(), 1, "o")],
+        [(0, EqualToAll(), "o")], [[0, 1, "o"]], [(False, 1, "o")], [(0, True, "o")], [(False, True, "o")],
+        [("0", 1, "o")], [(0, "1", "o")], [(None, 1, "o")], [(0, None, "o")], [("o", 0, 1)], [(1, 0, "o")],
+        [(0, 0, "o")], [(-1, 0, "o")], [(-1, 1, "o")], [(0, 30, "o")], [(0, 1000, "o")], [(30, 31, ".")],
+        [(10 ** 50, 10 ** 50 + 1, "o")], [(-2, -1, ".")], [(0, 1, "o"), None], [(0, 1, "o"), [0, 2, "."]],
+        [(0, 1, "o"), (0, 1, "o")], [(0, 1, "o"), (0, 1, ".")]]
+
+
+def looked_at(act):
+    """The names of the paces that act looks at, where both are refused."""
+    seen = []
+
+    class Watched(Part):
+        def __init__(self, name):
+            Part.__init__(self, -1)
+            self.name = name
+
+        def __getattribute__(self, field):
+            if field in ("top", "bottom"):
+                seen.append(object.__getattribute__(self, "name"))
+            return object.__getattribute__(self, field)
+
+    inn, out = Watched("inn"), Watched("out")
+    del seen[:]
+    try:
+        act(inn, out)
+    except NoPace:
+        return set(seen)
+    return None
+
+
+def check_pace_arguments(test, ask):
+    """Check that paces are handed in by place, by name, one of them, as None, or left out; ask takes paces only."""
+    one, inn, out = Part(1), Part(2, 3), Part(5, 7)
+    for found, wanted in [
+            (ask(), ask(one, one)), (ask(None), ask(one, one)), (ask(None, None), ask(one, one)),
+            (ask(inn=None), ask(one, one)), (ask(out=None), ask(one, one)), (ask(inn), ask(inn, one)),
+            (ask(inn=inn), ask(inn, one)), (ask(inn, None), ask(inn, one)), (ask(inn, out=None), ask(inn, one)),
+            (ask(None, out), ask(one, out)), (ask(out=out), ask(one, out)), (ask(inn=None, out=out), ask(one, out)),
+            (ask(out=out, inn=inn), ask(inn, out)), (ask(inn, out=out), ask(inn, out))]:
+        test.assertIsInstance(found, Part)
+        test.assertEqual(found, wanted)
+
+
+def check_no_paces(test, ask):
+    """Check that what are no paces is refused with NoPace, inn looked at first; ask takes paces only."""
+    inn, out = Part(2, 3), Part(5, 7)
+    for thing in no_paces():
+        with test.subTest(thing=repr(thing)):
+            for call in [lambda: ask(thing), lambda: ask(thing, out), lambda: ask(inn, thing), lambda: ask(inn=thing),
+                         lambda: ask(out=thing), lambda: ask(None, thing), lambda: ask(thing, thing)]:
+                with test.assertRaises(NoPace):
+                    call()
+    test.assertEqual(looked_at(ask), {"inn"})
