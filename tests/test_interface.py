@@ -35,6 +35,17 @@ FUNCTIONS = [
     ("hopline.courses", "heaps_of", [("row", NO_DEFAULT)]),
     ("hopline.greater", "heap_changed", [("row", NO_DEFAULT), ("heap", NO_DEFAULT), ("wall", NO_DEFAULT)]),
     ("hopline.greater", "heap_back", [("row", NO_DEFAULT), ("heap", NO_DEFAULT), ("wall", NO_DEFAULT)]),
+    ("hopline.beneath", "is_beneath", [("row", NO_DEFAULT), ("thing", NO_DEFAULT)]),
+    ("hopline.beneath", "beneath_many", [("row", NO_DEFAULT)]),
+    ("hopline.beneath", "beneath_at", [("row", NO_DEFAULT), ("number", NO_DEFAULT)]),
+    ("hopline.beneath", "beneath_number", [("row", NO_DEFAULT), ("other", NO_DEFAULT)]),
+    ("hopline.ways", "is_way", [("thing", NO_DEFAULT)]),
+    ("hopline.ways", "way_of", [("row", NO_DEFAULT), ("other", NO_DEFAULT)]),
+    ("hopline.ways", "rows_of", [("way", NO_DEFAULT)]),
+    ("hopline.ways", "ways_many", [("many", NO_DEFAULT)]),
+    ("hopline.totals", "total", [("many", NO_DEFAULT), ("inn", None), ("out", None)]),
+    ("hopline.totals", "through", [("many", NO_DEFAULT), ("inn", None), ("out", None)]),
+    ("hopline.totals", "row_chance", [("row", NO_DEFAULT), ("inn", None), ("out", None)]),
 ]
 
 METHODS = [

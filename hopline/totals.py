@@ -1,0 +1,45 @@
+"""Totals of the weights of all rows of so many places, what goes through, and how often a row is met."""
+
+from hopline.paces import paces_from
+from hopline.parts import Part, need_number, power
+from hopline.weights import share, weight
+
+MOST_IN_TOTAL = 40
+
+
+def often_by_signs(many):
+    """Tell, by the number of signs left, how often all words of so many signs together come to each end of so many.
+
+    All ends with as many signs come alike often, however many of these are beads: for one sign more, a bead and a
+    free place in turn, behind all ends of k signs each once, comes to all ends of 1, 2, to k + 1 signs each once.
+    """
+    often = [1]
+    for turn in range(many):
+        often = [0] + [sum(often[signs:]) for signs in range(len(often))]
+    return often
+
+
+def total(many, inn=None, out=None):
+    """Tell the sum of the weights of all rows of so many places."""
+    need_number(many, 0, MOST_IN_TOTAL)
+    first, last = paces_from(inn, out)
+    often = often_by_signs(many)
+    by_inn = [share(first, frees, many) for frees in range(many + 1)]
+    by_out = [share(last, beads, many) for beads in range(many + 1)]
+    # Over one bottom for all ends, as in the weight of a row.
+    top = 0
+    for frees in range(many + 1):
+        for beads in range(many + 1 - frees):
+            top += often[frees + beads] * by_inn[frees] * by_out[beads]
+    return Part(top, power(first.top, many) * power(last.top, many))
+
+
+def through(many, inn=None, out=None):
+    """Tell what goes through rows of so many places in the long run."""
+    need_number(many, 1, MOST_IN_TOTAL)
+    return total(many - 1, inn, out).over(total(many, inn, out))
+
+
+def row_chance(row, inn=None, out=None):
+    """Tell how often a row is met in the long run: its weight by the total of as many places."""
+    return weight(row, inn, out).over(total(len(row), inn, out))
