@@ -19,19 +19,28 @@ def often_by_signs(many):
     return often
 
 
+def all_ends(many):
+    """Tell the table of ends of all words of so many signs together: line by frees, item by beads."""
+    often = often_by_signs(many)
+    return [often[frees:] for frees in range(many + 1)]
+
+
+def top_of(table, many, first, last):
+    """Tell the weights of a table of ends together, as a top over one bottom: each pace's top raised so many times.
+
+    Over one bottom for all ends, as in the weight of a row.
+    """
+    by_inn = [share(first, frees, many) for frees in range(many + 1)]
+    by_out = [share(last, beads, many) for beads in range(many + 1)]
+    return sum([often * by_inn[frees] * by_out[beads]
+                for frees, line in enumerate(table) for beads, often in enumerate(line)])
+
+
 def total(many, inn=None, out=None):
     """Tell the sum of the weights of all rows of so many places."""
     need_number(many, 0, MOST_IN_TOTAL)
     first, last = paces_from(inn, out)
-    often = often_by_signs(many)
-    by_inn = [share(first, frees, many) for frees in range(many + 1)]
-    by_out = [share(last, beads, many) for beads in range(many + 1)]
-    # Over one bottom for all ends, as in the weight of a row.
-    top = 0
-    for frees in range(many + 1):
-        for beads in range(many + 1 - frees):
-            top += often[frees + beads] * by_inn[frees] * by_out[beads]
-    return Part(top, power(first.top, many) * power(last.top, many))
+    return Part(top_of(all_ends(many), many, first, last), power(first.top, many) * power(last.top, many))
 
 
 def through(many, inn=None, out=None):

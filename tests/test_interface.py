@@ -46,6 +46,17 @@ FUNCTIONS = [
     ("hopline.totals", "total", [("many", NO_DEFAULT), ("inn", None), ("out", None)]),
     ("hopline.totals", "through", [("many", NO_DEFAULT), ("inn", None), ("out", None)]),
     ("hopline.totals", "row_chance", [("row", NO_DEFAULT), ("inn", None), ("out", None)]),
+    ("hopline.chances", "bead_chance", [("many", NO_DEFAULT), ("place", NO_DEFAULT), ("inn", None), ("out", None)]),
+    ("hopline.chances", "both_chance",
+     [("many", NO_DEFAULT), ("one", NO_DEFAULT), ("other", NO_DEFAULT), ("inn", None), ("out", None)]),
+    ("hopline.chances", "wall_chance", [("many", NO_DEFAULT), ("wall", NO_DEFAULT), ("inn", None), ("out", None)]),
+    ("hopline.chances", "beads_on", [("many", NO_DEFAULT), ("inn", None), ("out", None)]),
+    ("hopline.chances", "number_chances", [("many", NO_DEFAULT), ("inn", None), ("out", None)]),
+    ("hopline.mirror", "heap_mirrored", [("row", NO_DEFAULT), ("heap", NO_DEFAULT)]),
+    ("hopline.mirror", "way_mirrored", [("way", NO_DEFAULT)]),
+    ("hopline.tables", "table", [("many", NO_DEFAULT), ("inn", None), ("out", None)]),
+    ("hopline.tables", "is_still", [("many", NO_DEFAULT), ("thing", NO_DEFAULT), ("inn", None), ("out", None)]),
+    ("hopline.tables", "times_told", [("many", NO_DEFAULT), ("thing", NO_DEFAULT), ("inn", None), ("out", None)]),
 ]
 
 METHODS = [
