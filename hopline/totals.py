@@ -26,14 +26,12 @@ def all_ends(many):
 
 
 def top_of(table, many, first, last):
-    """Tell the weights of a table of ends together, as a top over one bottom: each pace's top raised so many times.
-
-    Over one bottom for all ends, as in the weight of a row.
-    """
+    """Tell the weights of a table of ends together, as a top over one bottom: each pace's top raised so many times."""
     by_inn = [share(first, frees, many) for frees in range(many + 1)]
     by_out = [share(last, beads, many) for beads in range(many + 1)]
-    return sum([often * by_inn[frees] * by_out[beads]
-                for frees, line in enumerate(table) for beads, often in enumerate(line)])
+    # Line by line, for the shares may be long, while the counts are short.
+    lines = [sum([often * by_out[beads] for beads, often in enumerate(line)]) for line in table]
+    return sum([by_inn[frees] * worth for frees, worth in enumerate(lines)])
 
 
 def total(many, inn=None, out=None):

@@ -57,6 +57,16 @@ FUNCTIONS = [
     ("hopline.tables", "table", [("many", NO_DEFAULT), ("inn", None), ("out", None)]),
     ("hopline.tables", "is_still", [("many", NO_DEFAULT), ("thing", NO_DEFAULT), ("inn", None), ("out", None)]),
     ("hopline.tables", "times_told", [("many", NO_DEFAULT), ("thing", NO_DEFAULT), ("inn", None), ("out", None)]),
+    ("hopline.heaptables", "heap_table", [("many", NO_DEFAULT), ("inn", None), ("out", None)]),
+    ("hopline.heaptables", "is_heap_still",
+     [("many", NO_DEFAULT), ("thing", NO_DEFAULT), ("inn", None), ("out", None)]),
+    ("hopline.rings", "is_ring", [("thing", NO_DEFAULT)]),
+    ("hopline.rings", "ring_changes", [("ring", NO_DEFAULT)]),
+    ("hopline.rings", "ring_comes", [("ring", NO_DEFAULT)]),
+    ("hopline.rings", "ring_goes", [("ring", NO_DEFAULT)]),
+    ("hopline.rings", "ring_chance", [("ring", NO_DEFAULT)]),
+    ("hopline.lines", "ring_of", [("upper", NO_DEFAULT), ("lower", NO_DEFAULT)]),
+    ("hopline.lines", "ring_weight", [("ring", NO_DEFAULT)]),
 ]
 
 METHODS = [
@@ -101,6 +111,8 @@ METHODS = [
     ("hopline.heapwalks", "HeapWalk", "__eq__", [("other", NO_DEFAULT)]),
     ("hopline.heapwalks", "HeapWalk", "__len__", []),
     ("hopline.heapwalks", "HeapWalk", "__str__", []),
+    ("hopline.desk", "Desk", "__init__", []),
+    ("hopline.desk", "Desk", "say", [("row", NO_DEFAULT)]),
     ("hopline.errors", "NoWall", "__init__", [("wall", NO_DEFAULT)]),
     ("hopline.errors", "NoName", "__init__", [("name", NO_DEFAULT)]),
 ]

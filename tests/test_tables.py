@@ -143,6 +143,12 @@ class TestStill(unittest.TestCase):
                 for factor in FACTORS:
                     self.check(many, times(told, factor), inn, out, factor)
 
+    def test_all_weights_nought_or_below(self):
+        for many in range(1, 9):
+            for inn, out in PACES[:3]:
+                for factor in [Part(0), Part(-1), Part(-2, 3), Part(-1, 10 ** 50)]:
+                    self.check(many, times(table(many, inn, out), factor), inn, out, None)
+
     def test_as_much_comes_as_goes(self):
         for many in range(1, 7):
             for inn, out in PACES:
